@@ -4,8 +4,9 @@ import (
 	"math"
 	"slices"
 	"strings"
-	"sync"
 	"testing"
+
+	"mergelens/testkit"
 )
 
 // hostile lists texts that are malformed, long, or not UTF-8, beside ordinary ones.
@@ -84,20 +85,7 @@ func answers() []string {
 
 // TestSameResults checks R5: later calls and calls at the same time have the same results.
 func TestSameResults(t *testing.T) {
-	want := answers()
-	got := make([][]string, 16)
-	var group sync.WaitGroup
-	for i := range got {
-		group.Add(1)
-		go func() {
-			defer group.Done()
-			got[i] = answers()
-		}()
-	}
-	group.Wait()
-	for i, list := range got {
-		if !slices.Equal(list, want) {
-			t.Errorf("R5: goroutine %d: other results", i)
-		}
+	if !testkit.Same(answers) {
+		t.Error("R5: other results of the same calls")
 	}
 }

@@ -8,22 +8,8 @@ import (
 	"testing"
 
 	"mergelens/api"
+	"mergelens/testkit"
 )
-
-// texts calls f with every string of at most length bytes of the alphabet.
-func texts(alphabet string, length int, f func(s string)) {
-	var extend func(s string)
-	extend = func(s string) {
-		f(s)
-		if len(s) == length {
-			return
-		}
-		for i := range len(alphabet) {
-			extend(s + alphabet[i:i+1])
-		}
-	}
-	extend("")
-}
 
 // numbers lists small numbers, those around powers of ten and those around the limits.
 func numbers() []int {
@@ -100,7 +86,7 @@ func TestNumberOfAllTexts(t *testing.T) {
 			}
 		}
 	}
-	texts("0159,x", 5, check)
+	testkit.Texts("0159,x", 5, check)
 	for _, n := range numbers() {
 		check(strconv.Itoa(n))
 		check("0" + strconv.Itoa(n) + "9")
@@ -168,7 +154,7 @@ func TestRangeOfAllTexts(t *testing.T) {
 	}
 	// What a range, if there is one, extends over: the digits, and with a comma the digits that follow it.
 	extent := regexp.MustCompile(`^[0-9]+(,[0-9]*)?`)
-	texts("0129,x", 6, func(s string) {
+	testkit.Texts("0129,x", 6, func(s string) {
 		read := extent.FindString(s)
 		want, wantOK := written[read]
 		if len(read) > 3 && !strings.Contains(read, ",") {

@@ -6,6 +6,8 @@ import (
 	"strconv"
 	"strings"
 	"testing"
+
+	"mergelens/testkit"
 )
 
 // wordForm is the definition of a word, taken from the chapter sentence by sentence.
@@ -127,7 +129,7 @@ func TestUnquoteOfAllWords(t *testing.T) {
 // TestUnquoteOfAllTexts checks that Unquote reads a word exactly if some string's word is there.
 func TestUnquoteOfAllTexts(t *testing.T) {
 	words := map[string]string{} // the strings of the quoted words of at most six bytes that the texts below may begin with
-	texts("\"\\\nn1 7\x01", 4, func(s string) {
+	testkit.Texts("\"\\\nn1 7\x01", 4, func(s string) {
 		if w := wordForm(s); w[0] == '"' && len(w) <= 6 {
 			words[w] = s
 		}
@@ -138,7 +140,7 @@ func TestUnquoteOfAllTexts(t *testing.T) {
 			words[w] = s
 		}
 	}
-	texts("\"\\n1 7\x01", 6, func(s string) {
+	testkit.Texts("\"\\n1 7\x01", 6, func(s string) {
 		want, wantEnd, wantOK := "", 0, false
 		for end := 1; end <= len(s) && !wantOK; end++ {
 			if w, ok := words[s[:end]]; ok {
@@ -195,7 +197,7 @@ func TestWordsBack(t *testing.T) {
 // TestWordsOfAllTexts checks that Words accepts exactly the texts that the words of its result make up.
 func TestWordsOfAllTexts(t *testing.T) {
 	accepted := map[string]bool{}
-	texts("\"\\n ", 7, func(s string) {
+	testkit.Texts("\"\\n ", 7, func(s string) {
 		got, ok := Words(s)
 		if !ok {
 			if len(got) != 0 {
@@ -213,7 +215,7 @@ func TestWordsOfAllTexts(t *testing.T) {
 		}
 	})
 	parts := []string{""}
-	texts("\"\\n \n", 3, func(s string) { parts = append(parts, wordForm(s)) })
+	testkit.Texts("\"\\n \n", 3, func(s string) { parts = append(parts, wordForm(s)) })
 	for _, a := range parts[1:] {
 		for _, b := range parts {
 			text := a

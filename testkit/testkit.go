@@ -1,0 +1,43 @@
+// Package testkit holds what the tests of several layers share. The program itself does not use it.
+package testkit
+
+import (
+	"slices"
+	"sync"
+)
+
+// Texts calls f with every string of at most length bytes of the alphabet.
+func Texts(alphabet string, length int, f func(s string)) {
+	var extend func(s string)
+	extend = func(s string) {
+		f(s)
+		if len(s) == length {
+			return
+		}
+		for i := range len(alphabet) {
+			extend(s + alphabet[i:i+1])
+		}
+	}
+	extend("")
+}
+
+// Same reports whether calls of answers at the same time all return what a call before them returns.
+func Same(answers func() []string) bool {
+	want := answers()
+	got := make([][]string, 16)
+	var group sync.WaitGroup
+	for i := range got {
+		group.Add(1)
+		go func() {
+			defer group.Done()
+			got[i] = answers()
+		}()
+	}
+	group.Wait()
+	for _, list := range got {
+		if !slices.Equal(list, want) {
+			return false
+		}
+	}
+	return true
+}
