@@ -64,38 +64,30 @@ func TestArgumentsStay(t *testing.T) {
 	}
 }
 
-// spoil overwrites a list up to its capacity.
-func spoil[T any](list []T, v T) {
-	full := list[:cap(list)]
-	for i := range full {
-		full[i] = v
-	}
-}
-
 // TestNewLists checks R4: no list of a result shares memory with another one, with an argument or with a later result, not even beyond its length.
 func TestNewLists(t *testing.T) {
 	files := [][]string{{"a", "b", "a"}, {"a", "b", "a"}, {"c"}}
 	want := [][]int{{0, 1, 0}, {0, 1, 0}, {2}}
 	for i := range files {
 		ids := Ids(files)
-		spoil(ids[i], 9)
+		testkit.Spoil(ids[i], 9)
 		for j := range files {
 			if j != i && !slices.Equal(ids[j], want[j]) {
 				t.Errorf("R4: the numbers of file %d are %v after a change of those of file %d", j, ids[j], i)
 			}
 		}
-		spoil(ids, []int{8})
+		testkit.Spoil(ids, []int{8})
 		if got := Ids(files); !sameIds(got, want) {
 			t.Errorf("R4: Ids = %v after a change of another result", got)
 		}
 	}
 	names := []string{"a", "b", "c"}
-	spoil(Names([][]string{names}), "changed")
+	testkit.Spoil(Names([][]string{names}), "changed")
 	if got := Names([][]string{names}); !slices.Equal(got, names) || names[0] != "a" {
 		t.Errorf("R4: Names(%q) = %q after a change of another result", names, got)
 	}
 	got, _ := Spell(names, []int{0, 1, 2})
-	spoil(got, "changed")
+	testkit.Spoil(got, "changed")
 	if again, _ := Spell(names, []int{0, 1, 2}); !slices.Equal(again, []string{"a", "b", "c"}) {
 		t.Errorf("R4: Spell(%q) = %q after a change of another result", names, again)
 	}

@@ -57,10 +57,7 @@ func TestNewLists(t *testing.T) {
 	text := "a \"b c\" d"
 	first, _ := Words(text)
 	second, _ := Words(text)
-	for i := range first {
-		first[i] = "changed"
-	}
-	_ = append(first[:0:cap(first)], slices.Repeat([]string{"changed"}, cap(first))...)
+	testkit.Spoil(first, "changed")
 	third, _ := Words(text)
 	for _, words := range [][]string{second, third} {
 		if !slices.Equal(words, []string{"a", "b c", "d"}) {

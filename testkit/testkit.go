@@ -41,3 +41,11 @@ func Same(answers func() []string) bool {
 	}
 	return true
 }
+
+// Spoil overwrites a list up to its capacity, so that whatever shares memory with it shows.
+func Spoil[T any](list []T, v T) {
+	full := list[:cap(list)]
+	for i := range full {
+		full[i] = v
+	}
+}

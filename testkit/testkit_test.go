@@ -25,3 +25,11 @@ func TestSame(t *testing.T) {
 		t.Error("Same is true of other answers")
 	}
 }
+
+func TestSpoil(t *testing.T) {
+	list := []string{"a", "b", "c"}
+	Spoil(list[:1:2], "z")
+	if !slices.Equal(list, []string{"z", "z", "c"}) {
+		t.Errorf("Spoil leaves %q", list)
+	}
+}

@@ -68,10 +68,7 @@ func TestNewLists(t *testing.T) {
 		want := linesOf(blob)
 		first, _ := Split(blob)
 		second, _ := Split(blob)
-		full := first[:cap(first)]
-		for i := range full {
-			full[i] = "changed"
-		}
+		testkit.Spoil(first, "changed")
 		third, _ := Split(blob)
 		for _, lines := range [][]string{second, third} {
 			if !slices.Equal(lines, want) {
