@@ -69,7 +69,7 @@ func TestBuild(t *testing.T) {
 	} {
 		a := builtOf(t, parse(t, c.pattern))
 		for i, want := range c.want {
-			if got := ends(a, c.s, i); !slices.Equal(got, want) {
+			if got := testkit.Ends(a, c.s, i); !slices.Equal(got, want) {
 				t.Errorf("P5.1: Build of %q accepts in %q from %d to %v, want %v", c.pattern, c.s, i, got, want)
 			}
 		}
@@ -88,7 +88,7 @@ func TestBuildOfAllPatterns(t *testing.T) {
 			like := regexp.MustCompile("^(?:" + pattern + ")$")
 			a := builtOf(t, l)
 			for _, s := range texts {
-				if got := slices.Contains(ends(a, s, 0), len(s)); got != like.MatchString(s) {
+				if got := slices.Contains(testkit.Ends(a, s, 0), len(s)); got != like.MatchString(s) {
 					t.Fatalf("P5.1: Build of %q accepts the whole of %q: %v", pattern, s, got)
 				}
 			}
@@ -165,7 +165,7 @@ func TestGreatestWeight(t *testing.T) {
 			continue
 		}
 		builtOf(t, l)
-		if got := ends(a, strings.Repeat("a", 4005), 0); c.longest >= 0 && !slices.Equal(got, []int{c.longest}) {
+		if got := testkit.Ends(a, strings.Repeat("a", 4005), 0); c.longest >= 0 && !slices.Equal(got, []int{c.longest}) {
 			t.Errorf("P5.1: Build of %q accepts %v, want %d", c.pattern, got, c.longest)
 		}
 	}
@@ -195,7 +195,7 @@ func TestSharedKids(t *testing.T) {
 		compare(t, l, texts)
 	}
 	doubled := tower(a, 11, cat, 2)
-	if got := ends(builtOf(t, doubled), strings.Repeat("a", 2100), 7); !slices.Equal(got, []int{2055}) {
+	if got := testkit.Ends(builtOf(t, doubled), strings.Repeat("a", 2100), 7); !slices.Equal(got, []int{2055}) {
 		t.Errorf("P5.1: Build of 2048 bytes accepts from 7 to %v", got)
 	}
 	if _, e := Build(tower(a, 12, cat, 2)); e != api.ErrLimit {
@@ -204,7 +204,7 @@ func TestSharedKids(t *testing.T) {
 	// 4000 times a great number of blank kids
 	wide := append(blank, api.Node{Kind: api.NodeCat, Kids: append(slices.Repeat([]int{1}, 1<<20), 0)})
 	wide = append(wide, api.Node{Kind: api.NodeRepeat, Min: 100, Max: 100, Kids: []int{2}}, api.Node{Kind: api.NodeRepeat, Min: 40, Max: 40, Kids: []int{3}})
-	if got := ends(builtOf(t, wide), strings.Repeat("a", 4001), 0); !slices.Equal(got, []int{4000}) {
+	if got := testkit.Ends(builtOf(t, wide), strings.Repeat("a", 4001), 0); !slices.Equal(got, []int{4000}) {
 		t.Errorf("P5.1: Build of wide nodes accepts %v", got)
 	}
 }

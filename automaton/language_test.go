@@ -1,6 +1,9 @@
 package automaton
 
-import "mergelens/api"
+import (
+	"mergelens/api"
+	"mergelens/testkit"
+)
 
 // longest is the length of the longest text that has relations.
 const longest = 7
@@ -44,11 +47,6 @@ func empties(s string) relation {
 	return r
 }
 
-// contains reports whether a set has the byte b.
-func contains(set [4]uint64, b byte) bool {
-	return set[b/64]>>(b%64)&1 == 1
-}
-
 // language returns the language of the root for the text s, as the chapter defines it.
 func language(l []api.Node, s string) relation {
 	languages := make([]relation, len(l))
@@ -66,7 +64,7 @@ func languageOf(n api.Node, languages []relation, s string) relation {
 		r = empties(s)
 	case api.NodeSet:
 		for i := range len(s) {
-			if contains(n.Set, s[i]) {
+			if testkit.Contains(n.Set, s[i]) {
 				r = r.with(i, i+1)
 			}
 		}
@@ -105,49 +103,11 @@ func rounds(least, most int, kid relation, s string) relation {
 	return all
 }
 
-// ends returns the offsets j, ascending, for which the automaton accepts (i, j) in s, by following all paths.
-func ends(a api.Automaton, s string, i int) []int {
-	type place struct{ state, at int }
-	seen := make([]bool, len(a.States)*(len(s)+1))
-	accepts := make([]bool, len(s)+1)
-	var todo []place
-	visit := func(state, at int) {
-		if k := state*(len(s)+1) + at; !seen[k] {
-			seen[k] = true
-			todo = append(todo, place{state, at})
-		}
-	}
-	visit(a.Start, i)
-	for len(todo) > 0 {
-		p := todo[len(todo)-1]
-		todo = todo[:len(todo)-1]
-		state := &a.States[p.state]
-		switch {
-		case state.Kind == api.StateAccept:
-			accepts[p.at] = true
-		case state.Kind == api.StateSplit:
-			visit(state.Next, p.at)
-			visit(state.Other, p.at)
-		case state.Kind == api.StateStart && p.at == 0, state.Kind == api.StateEnd && p.at == len(s):
-			visit(state.Next, p.at)
-		case state.Kind == api.StateSet && p.at < len(s) && contains(state.Set, s[p.at]):
-			visit(state.Next, p.at+1)
-		}
-	}
-	var list []int
-	for j, yes := range accepts {
-		if yes {
-			list = append(list, j)
-		}
-	}
-	return list
-}
-
 // accepted returns the pairs that the automaton accepts in s.
 func accepted(a api.Automaton, s string) relation {
 	var r relation
 	for i := range len(s) + 1 {
-		for _, j := range ends(a, s, i) {
+		for _, j := range testkit.Ends(a, s, i) {
 			r = r.with(i, j)
 		}
 	}
