@@ -25,13 +25,7 @@ func built(t *testing.T, pattern string) api.Automaton {
 }
 
 // spans returns the spans of the given pairs of offsets.
-func spans(pairs ...[2]int) []api.Span {
-	var list []api.Span
-	for _, p := range pairs {
-		list = append(list, api.Span{From: p[0], To: p[1]})
-	}
-	return list
-}
+var spans = testkit.Spans
 
 // texts lists texts for which Whole or Any is true for a pattern, and texts for which it is false.
 type texts struct {

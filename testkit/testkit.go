@@ -4,6 +4,8 @@ package testkit
 import (
 	"slices"
 	"sync"
+
+	"mergelens/api"
 )
 
 // Texts calls f with every string of at most length bytes of the alphabet.
@@ -48,4 +50,13 @@ func Spoil[T any](list []T, v T) {
 	for i := range full {
 		full[i] = v
 	}
+}
+
+// Spans returns the spans with the given From and To.
+func Spans(pairs ...[2]int) []api.Span {
+	var list []api.Span
+	for _, p := range pairs {
+		list = append(list, api.Span{From: p[0], To: p[1]})
+	}
+	return list
 }

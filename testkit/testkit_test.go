@@ -5,6 +5,8 @@ import (
 	"strconv"
 	"sync/atomic"
 	"testing"
+
+	"mergelens/api"
 )
 
 func TestTexts(t *testing.T) {
@@ -31,5 +33,14 @@ func TestSpoil(t *testing.T) {
 	Spoil(list[:1:2], "z")
 	if !slices.Equal(list, []string{"z", "z", "c"}) {
 		t.Errorf("Spoil leaves %q", list)
+	}
+}
+
+func TestSpans(t *testing.T) {
+	if got := Spans([2]int{1, 2}, [2]int{-3, 0}); !slices.Equal(got, []api.Span{{From: 1, To: 2}, {From: -3, To: 0}}) {
+		t.Errorf("Spans = %v", got)
+	}
+	if got := Spans(); len(got) > 0 {
+		t.Errorf("Spans of nothing = %v", got)
 	}
 }
