@@ -149,28 +149,17 @@ func TestNotKept(t *testing.T) {
 
 // answers collects the results of calls of all functions.
 func answers() []string {
-	var list []string
-	add := func(numbers ...int) {
-		for _, n := range numbers {
-			list = append(list, strconv.Itoa(n))
-		}
-	}
-	addAll := func(l []api.Change, e api.Errno) {
-		add(int(e), len(l))
-		for _, c := range l {
-			add(c.Old, c.OldLen, c.New, c.NewLen)
-		}
-	}
+	var list testkit.Answers
 	eachLength(2, func(l []api.Change, m, n int) {
-		add(int(Check(l, m, n)), int(Check(l, m, n+1)))
-		add(Size(l))
-		addAll(Invert(l), api.OK)
-		addAll(Compose(l, Invert(l), m, n, m))
-		addAll(Compose(l, l, m, n, m))
+		list.Add(int(Check(l, m, n)), int(Check(l, m, n+1)))
+		list.Add(Size(l))
+		list.AddScript(Invert(l), api.OK)
+		list.AddScript(Compose(l, Invert(l), m, n, m))
+		list.AddScript(Compose(l, l, m, n, m))
 		p, e := Pairs(l, m, n)
-		addAll(FromPairs(p, m+1, n+1))
-		addAll(FromPairs(p, m-1, n))
-		add(int(e))
+		list.AddScript(FromPairs(p, m+1, n+1))
+		list.AddScript(FromPairs(p, m-1, n))
+		list.Add(int(e))
 		list = append(list, strconv.FormatBool(Fits(l, make([]int, m), make([]int, n))))
 	})
 	return list

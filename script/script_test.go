@@ -14,13 +14,7 @@ import (
 var extremes = []int{math.MinInt, -1 << 32, -1, 0, 1, 2, api.MaxLines, api.MaxLines + 1, 1 << 32, math.MaxInt - 1, math.MaxInt}
 
 // changes returns the changes with the given fields: Old, OldLen, New and NewLen.
-func changes(fields ...[4]int) []api.Change {
-	var l []api.Change
-	for _, f := range fields {
-		l = append(l, api.Change{Old: f[0], OldLen: f[1], New: f[2], NewLen: f[3]})
-	}
-	return l
-}
+var changes = testkit.Changes
 
 // spans returns the spans with the given From and To.
 var spans = testkit.Spans
@@ -74,28 +68,8 @@ func partnersOf(l []api.Change, m, n int) []api.Span {
 	return p
 }
 
-// scripts returns all valid scripts for m and n lines, which it builds change by change.
-func scripts(m, n int) [][]api.Change {
-	var all [][]api.Change
-	var extend func(l []api.Change, oldEnd, newEnd int)
-	extend = func(l []api.Change, oldEnd, newEnd int) {
-		if m-oldEnd == n-newEnd {
-			all = append(all, slices.Clone(l))
-		}
-		for kept := min(len(l), 1); kept <= min(m-oldEnd, n-newEnd); kept++ {
-			old, now := oldEnd+kept, newEnd+kept
-			for oldTo := old; oldTo <= m; oldTo++ {
-				for newTo := now; newTo <= n; newTo++ {
-					if oldTo > old || newTo > now {
-						extend(append(l, changes([4]int{old, oldTo - old, now, newTo - now})...), oldTo, newTo)
-					}
-				}
-			}
-		}
-	}
-	extend(nil, 0, 0)
-	return all
-}
+// scripts returns all valid scripts for m and n lines.
+var scripts = testkit.Scripts
 
 // eachLength calls f with all scripts for all numbers of lines up to most.
 func eachLength(most int, f func(l []api.Change, m, n int)) {
@@ -103,18 +77,6 @@ func eachLength(most int, f func(l []api.Change, m, n int)) {
 		for n := range most + 1 {
 			for _, l := range scripts(m, n) {
 				f(l, m, n)
-			}
-		}
-	}
-}
-
-// TestScripts checks that the tests' lists of all scripts are complete: each script is determined by the matched lines of both texts.
-func TestScripts(t *testing.T) {
-	for m := range 7 {
-		for n := range 7 {
-			all := scripts(m, n)
-			if want := new(big.Int).Binomial(int64(m+n), int64(n)); want.Cmp(big.NewInt(int64(len(all)))) != 0 {
-				t.Errorf("there are %v scripts for %d and %d lines, not %d", want, m, n, len(all))
 			}
 		}
 	}
