@@ -195,13 +195,7 @@ func TestFits(t *testing.T) {
 // TestAllFits compares Fits with the definition for all short scripts and texts, the script being one for their lengths or not.
 func TestAllFits(t *testing.T) {
 	var texts [][]int
-	testkit.Texts("01", 3, func(s string) {
-		var text []int
-		for _, b := range []byte(s) {
-			text = append(text, int(b))
-		}
-		texts = append(texts, text)
-	})
+	testkit.Texts("01", 3, func(s string) { texts = append(texts, testkit.Numbers(s)) })
 	eachLength(3, func(l []api.Change, _, _ int) {
 		for _, a := range texts {
 			for _, b := range texts {

@@ -13,18 +13,7 @@ import (
 var changes = testkit.Changes
 
 // numbers returns a text with one line for each byte of a string.
-func numbers(s string) []int {
-	text := make([]int, len(s))
-	for i := range text {
-		text[i] = int(s[i])
-	}
-	return text
-}
-
-// head returns the first elements of a list, for messages.
-func head[T any](list []T) []T {
-	return list[:min(len(list), 20)]
-}
+var numbers = testkit.Numbers
 
 // rests returns the distances D(i, j) of the rests of a and b.
 type rests func(i, j int) int
@@ -96,17 +85,17 @@ func compare(t *testing.T, a, b []int, d rests) []api.Change {
 	t.Helper()
 	distance := d(0, 0)
 	if got, e := Distance(a, b); e != api.OK || got != distance {
-		t.Fatalf("P9.1: Distance(%v, %v) = %d, %d, want %d", head(a), head(b), got, e, distance)
+		t.Fatalf("P9.1: Distance(%v, %v) = %d, %d, want %d", testkit.Head(a), testkit.Head(b), got, e, distance)
 	}
 	if got, e := Common(a, b); e != api.OK || 2*got != len(a)+len(b)-distance {
-		t.Fatalf("P9.3: Common(%v, %v) = %d, %d, but the distance is %d", head(a), head(b), got, e, distance)
+		t.Fatalf("P9.3: Common(%v, %v) = %d, %d, but the distance is %d", testkit.Head(a), testkit.Head(b), got, e, distance)
 	}
 	got, e := Script(a, b)
 	if want := walk(a, b, d); e != api.OK || !slices.Equal(got, want) {
-		t.Fatalf("P9.1: Script(%v, %v) = %v, %d, want %v", head(a), head(b), head(got), e, head(want))
+		t.Fatalf("P9.1: Script(%v, %v) = %v, %d, want %v", testkit.Head(a), testkit.Head(b), testkit.Head(got), e, testkit.Head(want))
 	}
 	if removed, added := script.Size(got); !script.Fits(got, a, b) || removed+added != distance {
-		t.Fatalf("P9.3: Script(%v, %v) = %v, but the distance is %d", head(a), head(b), head(got), distance)
+		t.Fatalf("P9.3: Script(%v, %v) = %v, but the distance is %d", testkit.Head(a), testkit.Head(b), testkit.Head(got), distance)
 	}
 	return got
 }

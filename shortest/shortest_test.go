@@ -207,7 +207,7 @@ func TestLongestTexts(t *testing.T) {
 		compare(t, c[0], c[1], distances(c[0], c[1]))
 	}
 	if got, e := Script(rising, slices.Clone(rising)); e != api.OK || len(got) > 0 {
-		t.Errorf("P9.1: Script of equal texts = %v, %d", head(got), e)
+		t.Errorf("P9.1: Script of equal texts = %v, %d", testkit.Head(got), e)
 	}
 	if got, e := Distance(rising, slices.Repeat([]int{-1}, most)); e != api.OK || got != 2*most {
 		t.Errorf("P9.1: Distance of texts without equal lines = %d, %d", got, e)
@@ -233,7 +233,7 @@ func TestLimits(t *testing.T) {
 			t.Errorf("P9.1: the errors for %d and %d lines are %d, %d and %d, want %d", len(c.a), len(c.b), e, f, g, c.want)
 		}
 		if c.want != api.OK && (distance != 0 || len(l) > 0 || common != 0) {
-			t.Errorf("R2: the results for %d and %d lines are %d, %v and %d", len(c.a), len(c.b), distance, head(l), common)
+			t.Errorf("R2: the results for %d and %d lines are %d, %v and %d", len(c.a), len(c.b), distance, testkit.Head(l), common)
 		}
 	}
 }

@@ -60,3 +60,17 @@ func Spans(pairs ...[2]int) []api.Span {
 	}
 	return list
 }
+
+// Numbers returns a text with one line for each byte of a string.
+func Numbers(s string) []int {
+	text := make([]int, len(s))
+	for i := range text {
+		text[i] = int(s[i])
+	}
+	return text
+}
+
+// Head returns the first elements of a list, for messages.
+func Head[T any](list []T) []T {
+	return list[:min(len(list), 20)]
+}

@@ -44,3 +44,25 @@ func TestSpans(t *testing.T) {
 		t.Errorf("Spans of nothing = %v", got)
 	}
 }
+
+func TestNumbers(t *testing.T) {
+	if got := Numbers("a\nb\xff"); !slices.Equal(got, []int{97, 10, 98, 255}) {
+		t.Errorf("Numbers = %v", got)
+	}
+	if got := Numbers(""); len(got) > 0 {
+		t.Errorf("Numbers of nothing = %v", got)
+	}
+}
+
+func TestHead(t *testing.T) {
+	list := make([]int, 30)
+	for i := range list {
+		list[i] = i
+	}
+	if got := Head(list); len(got) != 20 || got[0] != 0 || got[19] != 19 {
+		t.Errorf("Head = %v", got)
+	}
+	if got := Head(list[:3]); !slices.Equal(got, list[:3]) {
+		t.Errorf("Head of a short list = %v", got)
+	}
+}
