@@ -27,7 +27,7 @@ func TestInvert(t *testing.T) {
 
 // TestAllInversions checks for all short scripts that the inverse is a script in which the partners are exchanged.
 func TestAllInversions(t *testing.T) {
-	eachLength(5, func(l []api.Change, m, n int) {
+	testkit.EachScript(5, func(l []api.Change, m, n int) {
 		inverse := Invert(l)
 		want := partnersOf(l, m, n)
 		for i, s := range want {
@@ -104,7 +104,7 @@ func compareCompose(t *testing.T, x, y []api.Change, m, k, n int) []api.Change {
 // TestAllCompositions compares Compose with the definition for all short scripts.
 func TestAllCompositions(t *testing.T) {
 	const most = 4
-	eachLength(most, func(x []api.Change, m, k int) {
+	testkit.EachScript(most, func(x []api.Change, m, k int) {
 		for n := range most + 1 {
 			for _, y := range scripts(k, n) {
 				compareCompose(t, x, y, m, k, n)
@@ -116,8 +116,8 @@ func TestAllCompositions(t *testing.T) {
 // TestAssociative checks P8.5 for all triples of very short scripts.
 func TestAssociative(t *testing.T) {
 	const most = 3
-	eachLength(most, func(x []api.Change, m, k int) {
-		eachLength(most, func(z []api.Change, n, o int) {
+	testkit.EachScript(most, func(x []api.Change, m, k int) {
+		testkit.EachScript(most, func(z []api.Change, n, o int) {
 			for _, y := range scripts(k, n) {
 				checkAssociative(t, x, y, z, [4]int{m, k, n, o})
 			}
@@ -196,7 +196,7 @@ func TestFits(t *testing.T) {
 func TestAllFits(t *testing.T) {
 	var texts [][]int
 	testkit.Texts("01", 3, func(s string) { texts = append(texts, testkit.Numbers(s)) })
-	eachLength(3, func(l []api.Change, _, _ int) {
+	testkit.EachScript(3, func(l []api.Change, _, _ int) {
 		for _, a := range texts {
 			for _, b := range texts {
 				want := valid(l, len(a), len(b))

@@ -150,7 +150,7 @@ func TestNotKept(t *testing.T) {
 // answers collects the results of calls of all functions.
 func answers() []string {
 	var list testkit.Answers
-	eachLength(2, func(l []api.Change, m, n int) {
+	testkit.EachScript(2, func(l []api.Change, m, n int) {
 		list.Add(int(Check(l, m, n)), int(Check(l, m, n+1)))
 		list.Add(Size(l))
 		list.AddScript(Invert(l), api.OK)

@@ -71,17 +71,6 @@ func partnersOf(l []api.Change, m, n int) []api.Span {
 // scripts returns all valid scripts for m and n lines.
 var scripts = testkit.Scripts
 
-// eachLength calls f with all scripts for all numbers of lines up to most.
-func eachLength(most int, f func(l []api.Change, m, n int)) {
-	for m := range most + 1 {
-		for n := range most + 1 {
-			for _, l := range scripts(m, n) {
-				f(l, m, n)
-			}
-		}
-	}
-}
-
 // compareCheck compares Check with the definition, and the errors of Pairs, Compose and Fits with Check. It returns the error.
 func compareCheck(t *testing.T, l []api.Change, m, n int) api.Errno {
 	t.Helper()
@@ -156,7 +145,7 @@ func TestAllChecks(t *testing.T) {
 
 // TestNearScripts compares Check with the definition for all short scripts, and for all lists that differ from one in a number or a number of lines.
 func TestNearScripts(t *testing.T) {
-	eachLength(4, func(l []api.Change, m, n int) {
+	testkit.EachScript(4, func(l []api.Change, m, n int) {
 		if compareCheck(t, l, m, n) != api.OK {
 			t.Fatalf("P8.1: %v is no script for %d and %d lines", l, m, n)
 		}
@@ -215,7 +204,7 @@ func TestPairs(t *testing.T) {
 
 // TestAllPairs compares Pairs with the definition for all short scripts, and checks that a script is determined by its pairs.
 func TestAllPairs(t *testing.T) {
-	eachLength(6, func(l []api.Change, m, n int) {
+	testkit.EachScript(6, func(l []api.Change, m, n int) {
 		want := partnersOf(l, m, n)
 		if p, e := Pairs(l, m, n); e != api.OK || !slices.Equal(p, want) {
 			t.Fatalf("P8.2: Pairs(%v, %d, %d) = %v, %d, want %v", l, m, n, p, e, want)

@@ -95,21 +95,17 @@ func TestNewLists(t *testing.T) {
 // answers collects the results of calls of all functions.
 func answers() []string {
 	var list testkit.Answers
-	for m := range 5 {
-		for n := range 5 {
-			for _, l := range testkit.Scripts(m, n) {
-				for _, text := range []string{"aaaa", "abab", "aaba"} {
-					a, b := numbers(text)[:m], numbers(text)[:n]
-					list.AddScript(Down(l, a, b))
-					list.AddScript(Up(l, a, b))
-					for k := range len(l) + 1 {
-						up, down, e := Room(l, a, b, k)
-						list.Add(up, down, int(e))
-					}
-				}
+	testkit.EachScript(4, func(l []api.Change, m, n int) {
+		for _, text := range []string{"aaaa", "abab", "aaba"} {
+			a, b := numbers(text)[:m], numbers(text)[:n]
+			list.AddScript(Down(l, a, b))
+			list.AddScript(Up(l, a, b))
+			for k := range len(l) + 1 {
+				up, down, e := Room(l, a, b, k)
+				list.Add(up, down, int(e))
 			}
 		}
-	}
+	})
 	return list
 }
 

@@ -111,13 +111,9 @@ func TestAllTexts(t *testing.T) {
 
 // TestEqualLines compares all functions with their definitions for somewhat longer texts whose lines are all equal: only changes stop a change in them.
 func TestEqualLines(t *testing.T) {
-	for m := range 8 {
-		for n := range 8 {
-			for _, l := range testkit.Scripts(m, n) {
-				compare(t, l, make([]int, m), make([]int, n))
-			}
-		}
-	}
+	testkit.EachScript(7, func(l []api.Change, m, n int) {
+		compare(t, l, make([]int, m), make([]int, n))
+	})
 }
 
 // mixed returns a script and texts that it fits. Most lines are the same as those some lines before them, so that changes can be moved far.

@@ -39,6 +39,17 @@ func Scripts(m, n int) [][]api.Change {
 	return all
 }
 
+// EachScript calls f with all valid scripts for all numbers of lines up to most.
+func EachScript(most int, f func(l []api.Change, m, n int)) {
+	for m := range most + 1 {
+		for n := range most + 1 {
+			for _, l := range Scripts(m, n) {
+				f(l, m, n)
+			}
+		}
+	}
+}
+
 // Answers collects the results of calls for Same.
 type Answers []string
 

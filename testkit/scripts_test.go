@@ -34,6 +34,24 @@ func TestScripts(t *testing.T) {
 	}
 }
 
+func TestEachScript(t *testing.T) {
+	got := map[[2]int][][]api.Change{}
+	EachScript(2, func(l []api.Change, m, n int) {
+		lines := [2]int{m, n}
+		got[lines] = append(got[lines], l)
+	})
+	for m := range 3 {
+		for n := range 3 {
+			if all := got[[2]int{m, n}]; !slices.EqualFunc(all, Scripts(m, n), slices.Equal) {
+				t.Errorf("EachScript goes through %v for %d and %d lines", all, m, n)
+			}
+		}
+	}
+	if len(got) != 9 {
+		t.Errorf("EachScript goes through scripts for %d pairs of numbers", len(got))
+	}
+}
+
 func TestAnswers(t *testing.T) {
 	var list Answers
 	list.Add(3, -1)
