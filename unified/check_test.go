@@ -68,31 +68,17 @@ func TestAllLines(t *testing.T) {
 			lines = append(lines, string(kind)+line)
 		}
 	}
-	eachList(lines, 3, func(list []string) {
+	testkit.EachList(lines, 3, func(list []string) {
 		for _, at := range []int{-1, 0, 1, api.MaxLines - 2, api.MaxLines - 1, api.MaxLines} {
 			compareForm(t, patchOf(hunkOf(at, at, list...)))
 		}
 	})
 }
 
-// eachList calls f with all lists of at most length elements.
-func eachList[T any](elements []T, length int, f func(list []T)) {
-	var extend func(list []T)
-	extend = func(list []T) {
-		f(slices.Clone(list))
-		if len(list) < length {
-			for _, x := range elements {
-				extend(append(list, x))
-			}
-		}
-	}
-	extend(nil)
-}
-
 // TestAllPatches compares Check and Format with their definitions for all pairs of small hunks.
 func TestAllPatches(t *testing.T) {
 	var first, second []api.PatchHunk
-	eachList([]string{" a\n", "-a\n", "+a\n", " b", "-b", "+b"}, 2, func(lines []string) {
+	testkit.EachList([]string{" a\n", "-a\n", "+a\n", " b", "-b", "+b"}, 2, func(lines []string) {
 		for old := range 4 {
 			first = append(first, hunkOf(old/3, old/2, lines...))
 			for now := range 4 {
@@ -111,33 +97,6 @@ func TestAllPatches(t *testing.T) {
 	if valid < 1000 {
 		t.Errorf("only %d patches are valid", valid)
 	}
-}
-
-// mixed returns a valid patch with several hunks.
-func mixed(r *rand.Rand) api.Patch {
-	p := patchOf()
-	old, now := 0, 0
-	for range r.Intn(6) {
-		gap := r.Intn(3) * r.Intn(20)
-		h := api.PatchHunk{Old: old + gap, New: now + gap}
-		old, now = h.Old, h.New
-		for k := range 1 + r.Intn(8) {
-			line := api.PatchLine{Kind: " -+"[r.Intn(3)], Text: "abc\n"[r.Intn(4):]}
-			if k == 0 {
-				line.Kind = "-+"[r.Intn(2)]
-			}
-			if line.Kind != '+' {
-				old++
-			}
-			if line.Kind != '-' {
-				now++
-			}
-			h.Lines = append(h.Lines, line)
-		}
-		r.Shuffle(len(h.Lines), func(i, j int) { h.Lines[i], h.Lines[j] = h.Lines[j], h.Lines[i] })
-		p.Hunks = append(p.Hunks, h)
-	}
-	return p
 }
 
 // spoil makes a small change somewhere in a patch, which is mostly not valid then.
@@ -172,7 +131,7 @@ func TestMixedPatches(t *testing.T) {
 	r := rand.New(rand.NewSource(12))
 	valid := 0
 	for range 20000 {
-		p := mixed(r)
+		p := testkit.MixedPatch(r.Intn)
 		if e := compareForm(t, p); e != api.OK {
 			t.Fatalf("P12.1: the valid patch %v has the error %d", p, e)
 		}

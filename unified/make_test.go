@@ -28,7 +28,7 @@ func TestMake(t *testing.T) {
 		{"a\r\n\x00\xff", "a\n\x00\xff", 1, false, []api.PatchHunk{hunkOf(0, 0, "-a\r\n", "+a\n", " \x00\xff")}}, {"-a\n", "+a\n", 0, false, []api.PatchHunk{hunkOf(0, 0, "--a\n", "++a\n")}},
 	} {
 		want := patchOf(x.want...)
-		if p, e := Make("a", "b", x.a, x.b, x.context, x.down); e != api.OK || !same(p, want) {
+		if p, e := Make("a", "b", x.a, x.b, x.context, x.down); e != api.OK || !testkit.SamePatch(p, want) {
 			t.Errorf("P12.2: Make(%q, %q, %d, %v) = %v, %d, want %v", x.a, x.b, x.context, x.down, p, e, want)
 		}
 		compareMake(t, x.a, x.b, x.context, x.down)
@@ -40,7 +40,7 @@ func TestDown(t *testing.T) {
 	testkit.Texts("ab", 6, func(x string) {
 		testkit.Texts("ab", 6, func(y string) {
 			a, b := lines(x), lines(y)
-			if stay, down := compareMake(t, a, b, 0, false), compareMake(t, a, b, 0, true); !same(stay, down) {
+			if stay, down := compareMake(t, a, b, 0, false), compareMake(t, a, b, 0, true); !testkit.SamePatch(stay, down) {
 				t.Fatalf("P12.2: Make(%q, %q) moves %v down to %v", a, b, stay, down)
 			}
 		})
@@ -152,7 +152,7 @@ func TestErrorsOfMake(t *testing.T) {
 							want = api.ErrRange
 						}
 						p, e := Make(old.s, now.s, a.s, b.s, context, context%2 == 0)
-						if e != want || e != api.OK && !same(p, api.Patch{}) {
+						if e != want || e != api.OK && !testkit.SamePatch(p, api.Patch{}) {
 							t.Errorf("P12.2: Make(%.9q, %.9q, %.9q, %.9q, %d) = %.40v, %d, want the error %d", old.s, now.s, a.s, b.s, context, p, e, want)
 						}
 					}

@@ -14,22 +14,12 @@ import (
 	"mergelens/script"
 	"mergelens/shortest"
 	"mergelens/slide"
+	"mergelens/testkit"
 	"mergelens/text"
 )
 
-// patchOf returns a patch with ordinary names.
-func patchOf(hunks ...api.PatchHunk) api.Patch {
-	return api.Patch{OldName: "a", NewName: "b", Hunks: hunks}
-}
-
-// hunkOf returns a hunk whose lines are written with their kinds before them.
-func hunkOf(old, now int, lines ...string) api.PatchHunk {
-	h := api.PatchHunk{Old: old, New: now}
-	for _, line := range lines {
-		h.Lines = append(h.Lines, api.PatchLine{Kind: line[0], Text: line[1:]})
-	}
-	return h
-}
+// Short names for the tables.
+var patchOf, hunkOf = testkit.PatchOf, testkit.HunkOf
 
 // clone returns a patch that shares no lists with another one.
 func clone(p api.Patch) api.Patch {
@@ -38,13 +28,6 @@ func clone(p api.Patch) api.Patch {
 		p.Hunks[i].Lines = slices.Clone(p.Hunks[i].Lines)
 	}
 	return p
-}
-
-// same reports whether two patches are equal.
-func same(p, q api.Patch) bool {
-	return p.OldName == q.OldName && p.NewName == q.NewName && slices.EqualFunc(p.Hunks, q.Hunks, func(x, y api.PatchHunk) bool {
-		return x.Old == y.Old && x.New == y.New && slices.Equal(x.Lines, y.Lines)
-	})
 }
 
 // sideOf returns the lines of a hunk in the old text, for the kind '-', or in the new text, for the kind '+'.
@@ -297,7 +280,7 @@ func applied(p api.Patch, blob string) (string, bool) {
 func compareMake(t *testing.T, a, b string, context int, down bool) api.Patch {
 	t.Helper()
 	p, e := Make("a", "b", a, b, context, down)
-	if want := made(a, b, context, down); e != api.OK || !same(p, want) {
+	if want := made(a, b, context, down); e != api.OK || !testkit.SamePatch(p, want) {
 		t.Fatalf("P12.2: Make(%.40q, %.40q, %d, %v) = %.200v, %d, want %.200v", a, b, context, down, p, e, want)
 	}
 	if f := compareForm(t, p); f != api.OK || len(p.Hunks) == 0 != (a == b) {

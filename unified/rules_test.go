@@ -23,7 +23,7 @@ func TestArgumentsStay(t *testing.T) {
 		}
 	}
 	call(p)
-	if !same(p, all) {
+	if !testkit.SamePatch(p, all) {
 		t.Errorf("R4: the patch is %v, not %v", p, all)
 	}
 }
@@ -34,7 +34,7 @@ func TestNewLists(t *testing.T) {
 	want := patchOf(hunkOf(1, 1, "-2\n"), hunkOf(5, 4, "+0\n"), hunkOf(8, 8, "-9\n", "+x"))
 	first, e := Make("a", "b", a, b, 0, false)
 	second, f := Make("a", "b", a, b, 0, true)
-	if e != api.OK || f != api.OK || !same(first, want) || !same(second, want) {
+	if e != api.OK || f != api.OK || !testkit.SamePatch(first, want) || !testkit.SamePatch(second, want) {
 		t.Fatalf("P12.2: Make = %v, %d and %v, %d, want %v", first, e, second, f, want)
 	}
 	for i := range first.Hunks {
@@ -49,7 +49,7 @@ func TestNewLists(t *testing.T) {
 	}
 	testkit.Spoil(first.Hunks, api.PatchHunk{Old: 9})
 	third, _ := Make("a", "b", a, b, 0, false)
-	if !same(second, want) || !same(third, want) {
+	if !testkit.SamePatch(second, want) || !testkit.SamePatch(third, want) {
 		t.Errorf("R4: the patches are %v and %v after a change of another one, want %v", second, third, want)
 	}
 }
