@@ -40,14 +40,7 @@ func answers() []string {
 	var list testkit.Answers
 	add := func(s string) {
 		p, e := Parse(s)
-		list = append(list, p.OldName, p.NewName)
-		list.Add(int(e), len(p.Hunks))
-		for _, h := range p.Hunks {
-			list.Add(h.Old, h.New, len(h.Lines))
-			for _, line := range h.Lines {
-				list = append(list, string(line.Kind), line.Text)
-			}
-		}
+		list.AddPatch(p, e)
 		lines, ok := Lines(s)
 		list = append(list, lines...)
 		if ok {

@@ -42,6 +42,26 @@ func SamePatch(p, q api.Patch) bool {
 	})
 }
 
+// ClonePatch returns a patch that shares no lists with another one.
+func ClonePatch(p api.Patch) api.Patch {
+	p.Hunks = slices.Clone(p.Hunks)
+	for i := range p.Hunks {
+		p.Hunks[i].Lines = slices.Clone(p.Hunks[i].Lines)
+	}
+	return p
+}
+
+// SideOf returns the lines of a hunk in the old text, for the kind '-', or in the new text, for the kind '+'.
+func SideOf(h api.PatchHunk, kind byte) []string {
+	var list []string
+	for _, line := range h.Lines {
+		if line.Kind == ' ' || line.Kind == kind {
+			list = append(list, line.Text)
+		}
+	}
+	return list
+}
+
 // MixedPatch returns a valid patch with several hunks. The function intn returns any number from 0 to n - 1.
 func MixedPatch(intn func(n int) int) api.Patch {
 	p := PatchOf()
@@ -93,4 +113,43 @@ func lastLine(p api.Patch, other byte) *api.PatchLine {
 		}
 	}
 	return last
+}
+
+// SpoilPatch makes a small change somewhere in a valid patch, which is mostly not valid then. The function intn returns any number from 0 to n - 1.
+func SpoilPatch(p api.Patch, intn func(n int) int) {
+	if len(p.Hunks) == 0 {
+		return
+	}
+	h := &p.Hunks[intn(len(p.Hunks))]
+	line := &h.Lines[intn(len(h.Lines))]
+	switch intn(8) {
+	case 0:
+		h.Old += intn(3) - 1
+	case 1:
+		h.New += intn(3) - 1
+	case 2:
+		h.Old, h.New = h.Old-1, h.New-1
+	case 3:
+		h.Lines = h.Lines[1:]
+	case 4:
+		line.Kind = " -+\\"[intn(4)]
+	case 5:
+		line.Text = "a\nb\n"[intn(5):]
+	case 6:
+		h.Lines = append(h.Lines, *line)
+	case 7:
+		*line = api.PatchLine{Kind: ' ', Text: "a"}
+	}
+}
+
+// AddPatch adds the patch and the error that a call returns.
+func (list *Answers) AddPatch(p api.Patch, e api.Errno) {
+	*list = append(*list, p.OldName, p.NewName)
+	list.Add(int(e), len(p.Hunks))
+	for _, h := range p.Hunks {
+		list.Add(h.Old, h.New, len(h.Lines))
+		for _, line := range h.Lines {
+			*list = append(*list, string(line.Kind), line.Text)
+		}
+	}
 }

@@ -99,33 +99,6 @@ func TestAllPatches(t *testing.T) {
 	}
 }
 
-// spoil makes a small change somewhere in a patch, which is mostly not valid then.
-func spoil(r *rand.Rand, p api.Patch) {
-	if len(p.Hunks) == 0 {
-		return
-	}
-	h := &p.Hunks[r.Intn(len(p.Hunks))]
-	line := &h.Lines[r.Intn(len(h.Lines))]
-	switch r.Intn(8) {
-	case 0:
-		h.Old += r.Intn(3) - 1
-	case 1:
-		h.New += r.Intn(3) - 1
-	case 2:
-		h.Old, h.New = h.Old-1, h.New-1
-	case 3:
-		h.Lines = h.Lines[1:]
-	case 4:
-		line.Kind = " -+\\"[r.Intn(4)]
-	case 5:
-		line.Text = "a\nb\n"[r.Intn(5):]
-	case 6:
-		h.Lines = append(h.Lines, *line)
-	case 7:
-		*line = api.PatchLine{Kind: ' ', Text: "a"}
-	}
-}
-
 // TestMixedPatches compares Check and Format with their definitions for longer patches, also with small mistakes.
 func TestMixedPatches(t *testing.T) {
 	r := rand.New(rand.NewSource(12))
@@ -135,7 +108,7 @@ func TestMixedPatches(t *testing.T) {
 		if e := compareForm(t, p); e != api.OK {
 			t.Fatalf("P12.1: the valid patch %v has the error %d", p, e)
 		}
-		spoil(r, p)
+		testkit.SpoilPatch(p, r.Intn)
 		if compareForm(t, p) == api.OK {
 			valid++
 		}

@@ -73,7 +73,7 @@ func TestMixedBlobs(t *testing.T) {
 	r := rand.New(rand.NewSource(12))
 	several := 0
 	for range 3000 {
-		a, b := changed(r)
+		a, b := testkit.MixedBlobs(r.Intn)
 		for _, context := range []int{0, 1 + r.Intn(5), api.MaxContext} {
 			if p := compareMake(t, a, b, context, r.Intn(2) == 0); len(p.Hunks) > 2 && context > 0 {
 				several++
@@ -83,30 +83,6 @@ func TestMixedBlobs(t *testing.T) {
 	if several < 300 {
 		t.Errorf("only %d patches have several hunks", several)
 	}
-}
-
-// changed returns two blobs that have many lines in common.
-func changed(r *rand.Rand) (string, string) {
-	var a, b strings.Builder
-	letters := 1 + r.Intn(40)
-	line := func() string { return strconv.Itoa(r.Intn(letters)) + "\n" }
-	for range r.Intn(60) {
-		switch same := line(); r.Intn(16) {
-		case 0:
-			a.WriteString(same)
-		case 1:
-			b.WriteString(same)
-		case 2:
-			a.WriteString(same)
-			b.WriteString(line())
-		default:
-			a.WriteString(same)
-			b.WriteString(same)
-		}
-	}
-	ends := []string{"", "x", "y"}
-	end := ends[r.Intn(3)]
-	return a.String() + end, b.String() + []string{end, ends[r.Intn(3)]}[r.Intn(2)]
 }
 
 // TestNamesOfMake checks that the names are those of the patch, without quotes.

@@ -19,27 +19,7 @@ import (
 )
 
 // Short names for the tables.
-var patchOf, hunkOf = testkit.PatchOf, testkit.HunkOf
-
-// clone returns a patch that shares no lists with another one.
-func clone(p api.Patch) api.Patch {
-	p.Hunks = slices.Clone(p.Hunks)
-	for i := range p.Hunks {
-		p.Hunks[i].Lines = slices.Clone(p.Hunks[i].Lines)
-	}
-	return p
-}
-
-// sideOf returns the lines of a hunk in the old text, for the kind '-', or in the new text, for the kind '+'.
-func sideOf(h api.PatchHunk, kind byte) []string {
-	var list []string
-	for _, line := range h.Lines {
-		if line.Kind == ' ' || line.Kind == kind {
-			list = append(list, line.Text)
-		}
-	}
-	return list
-}
+var patchOf, hunkOf, sideOf = testkit.PatchOf, testkit.HunkOf, testkit.SideOf
 
 // ends returns the ends of a hunk in both texts, as exact numbers.
 func ends(h api.PatchHunk) (*big.Int, *big.Int) {

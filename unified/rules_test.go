@@ -10,7 +10,7 @@ import (
 // TestArgumentsStay checks that, as R4 says, all functions leave their arguments as they are, even behind their ends.
 func TestArgumentsStay(t *testing.T) {
 	all := patchOf(hunkOf(1, 1, " a\n", "-b\n", "+c\n"), hunkOf(3, 3, "+d\n", "-e", "+f\n"), hunkOf(9, 9))
-	p := clone(all)
+	p := testkit.ClonePatch(all)
 	call := func(p api.Patch) {
 		Check(p)
 		Format(p)

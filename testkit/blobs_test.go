@@ -1,0 +1,30 @@
+package testkit
+
+import (
+	"math/rand"
+	"strings"
+	"testing"
+)
+
+// TestMixedBlobs checks that blobs have lines in common, and others, and that some have no line feed at their end.
+func TestMixedBlobs(t *testing.T) {
+	r := rand.New(rand.NewSource(14))
+	equal, similar, unended := 0, 0, 0
+	for range 1000 {
+		a, b := MixedBlobs(r.Intn)
+		if a == b {
+			equal++
+		}
+		if end := min(len(a), len(b), 6); a != b && end == 6 && a[:end] == b[:end] {
+			similar++
+		}
+		for _, blob := range []string{a, b} {
+			if blob != "" && !strings.HasSuffix(blob, "\n") {
+				unended++
+			}
+		}
+	}
+	if equal < 10 || similar < 300 || unended < 500 || unended > 1900 {
+		t.Errorf("of 1000 pairs of blobs, %d are equal and %d begin with the same lines, and %d blobs have no line feed at their end", equal, similar, unended)
+	}
+}
