@@ -11,25 +11,10 @@ import (
 )
 
 // Short names for the tables.
-var patchOf, hunkOf = testkit.PatchOf, testkit.HunkOf
-
-// linesOf is the definition of the lines of a blob.
-func linesOf(blob string) []string {
-	list := strings.SplitAfter(blob, "\n")
-	if list[len(list)-1] == "" {
-		return list[:len(list)-1]
-	}
-	return list
-}
-
-// isTooLarge is the definition of the limits of a blob.
-func isTooLarge(lines []string) bool {
-	bytes := 0
-	for _, line := range lines {
-		bytes += len(line)
-	}
-	return bytes > api.MaxBlob || len(lines) > api.MaxLines
-}
+var (
+	patchOf, hunkOf     = testkit.PatchOf, testkit.HunkOf
+	linesOf, isTooLarge = testkit.LinesOf, testkit.IsTooLarge
+)
 
 // fitting is the definition of Fits without an error.
 func fitting(p api.Patch, lines []string) int {

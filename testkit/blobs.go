@@ -3,7 +3,27 @@ package testkit
 import (
 	"strconv"
 	"strings"
+
+	"mergelens/api"
 )
+
+// LinesOf is the definition of the lines of a blob.
+func LinesOf(blob string) []string {
+	list := strings.SplitAfter(blob, "\n")
+	if list[len(list)-1] == "" {
+		return list[:len(list)-1]
+	}
+	return list
+}
+
+// IsTooLarge is the definition of the limits of a blob with these lines.
+func IsTooLarge(lines []string) bool {
+	bytes := 0
+	for _, line := range lines {
+		bytes += len(line)
+	}
+	return bytes > api.MaxBlob || len(lines) > api.MaxLines
+}
 
 // MixedBlobs returns two blobs that have many lines in common. The function intn returns any number from 0 to n - 1.
 func MixedBlobs(intn func(n int) int) (string, string) {
